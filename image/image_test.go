@@ -653,6 +653,44 @@ func TestPlaces(t *testing.T) {
 	}
 }
 
+// P14.1: no constant has the place 0, whatever stands there, and nothing that is named by the place 0 has a text.
+func TestPlaceNought(t *testing.T) {
+	askNone := func(m api.Image, at int, want string) {
+		t.Helper()
+		if s, ok := Text(m, 0); s != "" || ok {
+			t.Errorf("Text at 0 of %v = %q, %v", m.Pool, s, ok)
+		}
+		if s, ok := Class(m, 0); s != "" || ok {
+			t.Errorf("Class at 0 of %v = %q, %v", m.Pool, s, ok)
+		}
+		if s, ok := Class(m, at); s != want || ok != (want != "") {
+			t.Errorf("Class at %d of %v = %q, %v", at, m.Pool, s, ok)
+		}
+	}
+	for tag := -1; tag < 15; tag++ {
+		for a := range places {
+			first := api.Const{Tag: tag, A: a, B: a, Text: "nought"}
+			askNone(api.Image{Pool: []api.Const{first}}, 1, "")
+			m := sample()
+			m.Pool[0] = first
+			askNone(m, atClass, "a/A")
+			if s, ok := Text(m, atText); s != "a/A" || !ok {
+				t.Errorf("Text at %d = %q, %v", atText, s, ok)
+			}
+			m.Pool[atClass].A = 0
+			askNone(m, atClass, "")
+		}
+	}
+	// All else that names the place 0 is no less wrong when something stands there.
+	for _, first := range []api.Const{{Tag: api.TagText}, {Tag: api.TagText, Text: "A"}, {Tag: api.TagClass, A: 1}, {Tag: api.TagPair, A: 1, B: 1}} {
+		m := sample()
+		m.Pool[0] = first
+		askNoHold(t, m, "something at the place 0")
+		m.This, m.Super, m.Ifaces, m.Fields[0].Name = 0, 0, []int{0}, 0
+		askNoHold(t, m, "something at the place 0 that is named")
+	}
+}
+
 // count are the numbers below n.
 func count(n int) []int {
 	var l []int
